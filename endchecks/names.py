@@ -44,7 +44,7 @@ def is_tag_name(thing):
 
 def is_mode(thing):
     """Whether a value is one of the three modes."""
-    return isinstance(thing, str) and thing in MODES
+    return thing in MODES
 
 
 def less(one, other):

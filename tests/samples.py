@@ -3,6 +3,7 @@
 import copy
 
 from endchecks.schemas import Schema
+from endchecks.tables import Tables
 
 FIELDS = {"state": ("mark", ["open", "done"]), "boss": ("link", "task"), "code": ("tag",)}
 ROW = {"state": "open", "boss": None, "code": "ab"}
@@ -48,6 +49,14 @@ def tree(rules=RULES):
 def task(state="open", boss=None, code=None):
     """A row of a task."""
     return {"state": state, "boss": boss, "code": code}
+
+
+def tasks(rows, rules=RULES):
+    """Tables of tasks: rows from ids to what task takes."""
+    tables = Tables(tree(rules))
+    for ident, row in rows.items():
+        tables["task", ident] = task(*row)
+    return tables
 
 
 def shop(rules=()):

@@ -75,7 +75,7 @@ class TestsTest(unittest.TestCase):
         wrong = [
             ["none", "boss"], ["is", "state", ["open"]], "none", ("none",), ("none", "boss", "code"), ("none", "state"),
             ("none", "other"), ("none", None), ("none", True), ("none", ["boss"]), ("none", ("none", "boss")),
-            ("is",), ("is", "state"), ("is", "state", "open"), ("is", "state", ("open",)), ("is", "state", []),
+            ("has", "state", ["open"]), (None, "state", ["open"]), ("is",), ("is", "state"), ("is", "state", "open"), ("is", "state", ("open",)), ("is", "state", []),
             ("is", "state", ["shut"]), ("is", "state", ["open", "shut"]), ("is", "state", [True]),
             ("is", "state", ["open", None]), ("is", "state", [["open"]]), ("is", "boss", ["open"]),
             ("is", "code", ["open"]), ("is", "other", ["open"]), ("is", ["state"], ["open"]),

@@ -5,16 +5,10 @@ import unittest
 
 from endchecks.errors import BadRule, Full, Wrong
 from endchecks.schemas import Schema
+from tests.cases import RaisesCase
 from tests.samples import FIELDS, ODD, ROW, RULES, deep, not_nested, shop, task, tree
 
 OPEN = [("is", "state", ["open"])]
-
-
-class RaisesCase(unittest.TestCase):
-    def refused(self, kind, field, value, call, *args):
-        with self.assertRaises(kind) as caught:
-            call(*args)
-        self.assertEqual(repr(getattr(caught.exception, field)), repr(value), args)
 
 
 class MakingTest(RaisesCase):
@@ -98,6 +92,7 @@ BAD_RULES = [
     ("a", "link", "task", "boss", (), []), ("a", "link", "task", "boss", [], ()),
     ("a", "link", "task", "boss", [("none", "x")], []), ("a", "link", "task", "boss", [], [("none", "x")]),
     ("a", "link", "task", "boss", None, []), ("a", "link", "task", "boss", [], None),
+    ("a", "check", "task", "boss", [], []), ("a", None, "task", "boss", [], []),
     ("a", "unique", "task", "code", [], []), ("a",), ("a", "check"), (), "rule",
 ]
 
