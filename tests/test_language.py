@@ -32,7 +32,7 @@ STATEMENTS = (
     ast.Assign, ast.AugAssign, ast.If, ast.While, ast.For, ast.Return, ast.Break, ast.Continue, ast.Pass, ast.Raise,
     ast.Assert, ast.Delete, ast.Try, ast.Expr, ast.FunctionDef, ast.ClassDef, ast.ImportFrom)
 NOT_USED = (
-    ast.GeneratorExp, ast.Lambda, ast.Global, ast.AsyncFunctionDef, ast.Yield, ast.YieldFrom, ast.Await, ast.JoinedStr,
+    ast.GeneratorExp, ast.Lambda, ast.Global, ast.AsyncFunctionDef, ast.YieldFrom, ast.Await, ast.JoinedStr,
     ast.NamedExpr, ast.Div, ast.Import, ast.Nonlocal, ast.With, ast.AnnAssign)
 PLAIN = (
     ast.Constant, ast.Tuple, ast.List, ast.Dict, ast.Load, ast.UnaryOp, ast.USub, ast.BinOp, ast.operator, ast.Name)
@@ -140,6 +140,7 @@ class StatementsTest(unittest.TestCase):
             own = {node.id for node in ast.walk(tree) if isinstance(node, ast.Name) and not isinstance(node.ctx, ast.Load)}
             own |= {node.arg for node in ast.walk(tree) if isinstance(node, ast.arg)}
             own |= {node.name for node in tree.body if isinstance(node, (ast.FunctionDef, ast.ClassDef))}
+            own |= {node.name for node in ast.walk(tree) if isinstance(node, ast.ExceptHandler) and node.name}
             own |= {alias.name for node in tree.body if isinstance(node, ast.ImportFrom) for alias in node.names}
             for node in ast.walk(tree):
                 if isinstance(node, ast.Name) and node.id not in own:
@@ -188,6 +189,27 @@ class StatementsTest(unittest.TestCase):
             self.assertTrue(isinstance(node.exc, ast.Call) and isinstance(node.exc.func, ast.Name), path.name)
         for path, node in nodes(ast.ExceptHandler):
             self.assertNotIn(ast.unparse(node.type), ["Exception", "TypeError", "AttributeError", "RuntimeError"])
+
+    def test_generators(self):
+        generators = {node.name for path, node in functions()
+                      if any(isinstance(part, ast.Yield) for part in ast.walk(node))}
+        for path, node in functions():
+            if node.name in generators:
+                self.assertFalse(any(isinstance(part, (ast.Try, ast.With)) for part in ast.walk(node)), path.name)
+                for part in ast.walk(node):
+                    self.assertFalse(isinstance(part, ast.Return) and part.value, path.name)
+        names = [node.name for path, node in functions()]
+        self.assertEqual([name for name in generators if names.count(name) > 1], [])
+        statements = [node.value for path, node in nodes(ast.Expr)]
+        yields = [part for part in statements if isinstance(part, ast.Yield)]
+        self.assertEqual(len(yields), len(nodes(ast.Yield)))
+        for path, node in nodes(ast.Name):
+            self.assertNotIn(node.id, generators, path.name)
+
+    def test_finally_is_simple(self):
+        for path, node in nodes(ast.Try):
+            for part in [inner for statement in node.finalbody for inner in ast.walk(statement)]:
+                self.assertNotIsInstance(part, (ast.Call, ast.Subscript, ast.Return, ast.Raise, ast.For, ast.Break))
 
     def test_strings(self):
         for path, node in nodes(ast.Constant):
