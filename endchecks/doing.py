@@ -3,7 +3,7 @@
 from endchecks.errors import Full, Taken
 from endchecks.names import new_id, own_name
 from endchecks.spots import row_stages, spots_among
-from endchecks.statements import meets_far, over
+from endchecks.statements import changed_row, meets_far, over
 from endchecks.tables import MOST_ROWS
 
 
@@ -72,14 +72,8 @@ def _plain_value(value):
 
 
 def _changed(row, sets):
-    changed = dict(row)
-    for field in sets:
-        value = sets[field]
-        if isinstance(value, tuple) and value[0] == "field":
-            changed[field] = row[value[1]]
-        else:
-            changed[field] = _plain_value(value)
-    return changed
+    changed = changed_row(row, sets)
+    return {field: _plain_value(changed[field]) for field in changed}
 
 
 def stages(tables, statement, ident):

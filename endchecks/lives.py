@@ -8,7 +8,8 @@ These dicts are never changed.
 from endchecks.conds import meets
 from endchecks.names import own_name
 from endchecks.rowkinds import start_row
-from endchecks.statements import over
+from endchecks.spots import is_met
+from endchecks.statements import changed_row, over
 
 
 def _put_row(statement):
@@ -24,42 +25,33 @@ def _put_value(handle, field, value):
     return value
 
 
-def _changed(row, sets):
-    changed = dict(row)
-    for field in sets:
-        value = sets[field]
-        if isinstance(value, tuple) and value[0] == "field":
-            changed[field] = row[value[1]]
-        else:
-            changed[field] = value
-    return changed
-
-
 class Lives:
-    """The lives of all rows along the steps of a course of a script; a life is a list, with a row at each moment."""
+    """The lives of all rows along the steps of a course of a script; a life is a list, with a row at each moment.
+
+    A row is told by its kind if it is a starting row, by its handle if it is a new one.
+    """
 
     def __init__(self, script, steps):
         self._schema = script.schema
         self._homes = script.handles()
         self._steps = [(address, word, script.statement_at(address)) for address, word in steps]
-        self._starting = {}
-        self._fresh = {}
+        self._known = {}
 
-    def starting(self, kind):
-        """The life of a starting row of a kind."""
-        if kind not in self._starting:
-            self._starting[kind] = self._life(kind, None, start_row(self._schema, kind))
-        return self._starting[kind]
+    def home(self, who):
+        """The table of a row."""
+        if isinstance(who, str):
+            return self._homes[who][0]
+        return who[0]
 
-    def fresh(self, handle):
-        """The life of the new row of a handle."""
-        if handle not in self._fresh:
-            self._fresh[handle] = self._life(None, handle, None)
-        return self._fresh[handle]
+    def life(self, who):
+        """The life of a row."""
+        if who not in self._known:
+            self._known[who] = self._lived(who)
+        return self._known[who]
 
-    def _life(self, kind, handle, row):
-        """The life of a row of a kind, or of the new row of a handle; one of these is None."""
-        table = kind[0] if handle is None else self._homes[handle][0]
+    def _lived(self, who):
+        table = self.home(who)
+        row = None if isinstance(who, str) else start_row(self._schema, who)
         life = [row]
         kept = {}
         for address, word, statement in self._steps:
@@ -68,39 +60,38 @@ class Lives:
             elif word == "undo":
                 row = kept[address]
             elif over(statement) == table:
-                row = self._row_behind(statement, kind, handle, row, len(life) - 1)
+                row = self._row_behind(statement, who, row, len(life) - 1)
             life.append(row)
         return life
 
-    def _row_behind(self, statement, kind, handle, row, moment):
-        """The row behind a put, change or take over its table, which is row ahead of it, at a moment."""
+    def _row_behind(self, statement, who, row, moment):
+        """The row behind a put, change or take over its table that is done at a moment, from the one ahead of it."""
         if statement[0] == "put":
-            return _put_row(statement) if statement[1] == handle else row
-        if row is None or not all([self._meets(kind, handle, row, moment, test) for test in statement[2]]):
+            return _put_row(statement) if statement[1] == who else row
+        if row is None or not all([self._meets(who, row, moment, test) for test in statement[2]]):
             return row
         if statement[0] == "take":
             return None
-        return _changed(row, statement[3])
+        return changed_row(row, statement[3])
 
-    def _meets(self, kind, handle, row, moment, test):
+    def _meets(self, who, row, moment, test):
         if test[0] == "not":
-            return not self._meets(kind, handle, row, moment, test[1])
+            return not self._meets(who, row, moment, test[1])
         if test[0] == "row":
-            return test[1] == handle
+            return test[1] == who
         if test[0] == "new":
             return row[test[1]] == ("new", test[2])
         if test[0] == "at":
-            other = self._seen(kind, row[test[1]], moment)
-            return other is not None and meets(other, test[2])
+            link = self.linked_to(who, row[test[1]])
+            return link[0] == "at" and is_met(self.life(link[1])[moment], test[2])
         return meets(row, [test])
 
-    def _seen(self, kind, link, moment):
-        """The row at a moment to which a link leads that is looked along; None for nobody."""
+    def linked_to(self, who, link):
+        """What a link of a row leads to: like the links of kinds, but also ("at", handle) for a new row."""
         if link is None:
-            return None
+            return ("none",)
+        if link == ("new", who):
+            return ("self",)
         if link[0] == "new":
-            return self.fresh(link[1])[moment]
-        inner = kind[2][self._schema.links(kind[0]).index(link[1])]
-        if inner[0] == "at":
-            return self.starting(inner[1])[moment]
-        return None
+            return ("at", link[1])
+        return who[2][self._schema.links(who[0]).index(link[1])]

@@ -97,8 +97,8 @@ def kind_of(tables, looks, ident):
     table = tables.table_of(ident)
     if table is None:
         raise NoRow(ident)
-    schema = tables.schema
     row = tables[table, ident]
+    schema = tables.schema
     marks = tuple([row[mark] for mark in schema.marks(table)])
     links = tuple([_link_of(tables, looks, ident, link) for link in schema.links(table)])
     return (table, marks, links, tuple([row[tag] is not None for tag in schema.tags(table)]))

@@ -107,7 +107,7 @@ def unchecked(script, tables):
         statement = script.statement_at(address)
         if statement[0] != "switch":
             now = done(now, statement)
-            behind.append((address, now.copied()))
+            behind.append((address, now))
     for address, there in behind:
         yield address, there
 

@@ -30,12 +30,13 @@ def spots_among(schema, rule, stages):
         return _link_spots(schema, rule, stages)
     if rule[1] == "unique":
         return _unique_spots(rows, rule[3])
-    if any([all([_is_met(row, rule[3]) for row in rows[ident]]) for ident in rows]):
+    if any([all([is_met(row, rule[3]) for row in rows[ident]]) for ident in rows]):
         return []
     return [()]
 
 
-def _is_met(stage, tests):
+def is_met(stage, tests):
+    """Whether a row, or None where it is not there, is there and meets tests."""
     return stage is not None and meets(stage, tests)
 
 
@@ -49,12 +50,12 @@ def _link_spots(schema, rule, stages):
     found = []
     for ident in stages[table]:
         for row in stages[table][ident]:
-            if _is_met(row, tests) and row[field] is not None:
+            if is_met(row, tests) and row[field] is not None:
                 others = stages[leads].get(row[field], [None])
                 # A row that links to itself is at one stage only.
                 if row[field] == ident and leads == table:
                     others = [row]
-                if not all([_is_met(other, there) for other in others]):
+                if not all([is_met(other, there) for other in others]):
                     found.append((ident, row[field]))
     return sorted(set(found))
 

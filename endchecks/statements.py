@@ -151,6 +151,18 @@ def over(statement):
     return statement[1]
 
 
+def changed_row(row, sets):
+    """The row with what sets put in the place of its values; all that it copies is taken from it as it was."""
+    changed = dict(row)
+    for field in sets:
+        value = sets[field]
+        if _is_pair(value, "field"):
+            changed[field] = row[value[1]]
+        else:
+            changed[field] = value
+    return changed
+
+
 def _inner_tests(statement):
     """The list of the tests of a change or take, each without the nots around it; none for other statements."""
     if statement[0] in ("change", "take"):

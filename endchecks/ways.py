@@ -91,13 +91,13 @@ def open_course(script, events):
 
 def way(script, steps, kind):
     """The list of the states of a starting row of a kind, at all moments."""
-    return [_state(script.schema, kind[0], row) for row in Lives(script, steps).starting(kind)]
+    return [_state(script.schema, kind[0], row) for row in Lives(script, steps).life(kind)]
 
 
 def new_way(script, steps, handle):
     """The list of the states of the new row of a handle, at all moments."""
     table = script.handles()[handle][0]
-    return [_state(script.schema, table, row) for row in Lives(script, steps).fresh(handle)]
+    return [_state(script.schema, table, row) for row in Lives(script, steps).life(handle)]
 
 
 def _state(schema, table, row):

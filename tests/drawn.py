@@ -178,3 +178,84 @@ def draw_script(chance, schema, most=3, depth=2, switches=1):
 
 def draw_modes(chance, schema):
     return {name: chance.choice(["each", "now", "late"]) for name in some_of(chance, schema.names(), 6)}
+
+
+def draw_test(chance, fields):
+    """One plain test of a table with fields."""
+    while True:
+        tests = draw_tests(chance, fields, 1)
+        if tests:
+            return tests[0]
+
+
+def draw_lively_rule(chance, tables, name):
+    table = chance.choice(sorted(tables))
+    fields = tables[table]
+    links = [field for field in fields if fields[field][0] == "link"]
+    tags = [field for field in fields if fields[field][0] == "tag"]
+    sort = chance.choice(["check", "some", "link", "link", "link"] + ["unique"] * 2 * bool(tags))
+    if sort == "link" and links:
+        link = chance.choice(links)
+        there = [draw_test(chance, tables[fields[link][1]])] if chance.random() < 0.6 else []
+        return (name, "link", table, link, draw_tests(chance, fields, 1) if chance.random() < 0.4 else [], there)
+    if sort == "unique":
+        return (name, "unique", table, chance.choice(tags))
+    return (name, "some" if sort == "some" else "check", table, [draw_test(chance, fields)])
+
+
+def draw_lively_single(chance, schema, handles, puts):
+    table = chance.choice(schema.tables())
+    fields = schema.fields(table)
+    links = schema.links(table)
+    tests = [draw_test(chance, fields)] if chance.random() < 0.8 else []
+    if chance.random() < 0.2 and links:
+        link = chance.choice(links)
+        inner = schema.fields(schema.leads_to(table, link))
+        test = ("at", link, [draw_test(chance, inner)]) if schema.leads_to(table, link) != table else ("none", link)
+        tests = [chance.choice([test, ("not", test)])]
+    kind = chance.choice(["change", "change", "change", "take", "switch"] + ["put"] * 2 * bool(puts))
+    if kind == "put":
+        row = {name: draw_value(chance, fields, name, handles, True) for name in fields}
+        return ("put", puts.pop(), table, row)
+    if kind == "switch":
+        return ("switch", chance.sample(schema.names(), 1), chance.choice(["each", "now", "late"]))
+    if kind == "take":
+        return ("take", table, tests)
+    names = chance.sample(sorted(fields), chance.choice([1, 1, 2]))
+    return ("change", table, tests, {name: draw_value(chance, fields, name, handles, False) for name in names})
+
+
+def draw_lively_body(chance, schema, handles, puts, many, depth):
+    body = []
+    catchable = [rule[0] for rule in schema.rules() if rule[1] != "unique"]
+    for _ in range(many):
+        kind = chance.choice(["one", "one", "trial", "try", "try", "try"]) if depth else "one"
+        if kind == "one":
+            body.append(draw_lively_single(chance, schema, handles, puts))
+        else:
+            first, second = [draw_lively_body(chance, schema, handles, puts, part, depth - 1)
+                             for part in [chance.choice([1, 2]), chance.choice([0, 1])]]
+            caught = chance.sample(catchable, chance.randint(min(1, len(catchable)), len(catchable)))
+            body.append(("trial", first) if kind == "trial" else ("try", first, caught, second))
+    return body
+
+
+def draw_lively(chance):
+    """A schema, a script and modes in which rules are likelier to fail than in those above."""
+    fields = {"m": ("mark", ["u", "v"]), "t": ("tag",)}
+    fields.update({link: ("link", "s") for link in chance.choice(["x", "x", "xy"])})
+    tables = {"s": fields}
+    if chance.random() < 0.3:
+        tables["r"] = {"n": ("mark", ["u", "v"]), "z": ("link", chance.choice("rs"))}
+        fields["x"] = ("link", chance.choice("rs"))
+    if chance.random() < 0.2:
+        fields["w"] = ("tag",)
+    schema = Schema(tables, [draw_lively_rule(chance, tables, name) for name in "klmno"[:chance.choice([1, 2, 2, 3, 3, 4])]])
+    while True:
+        handles = ["h", "i"][:chance.choice([0, 0, 1, 2])]
+        puts = list(handles)
+        body = draw_lively_body(chance, schema, handles, puts, chance.choice([1, 2, 3]), chance.choice([0, 1, 1, 2]))
+        try:
+            return schema, Script(schema, body), draw_modes(chance, schema)
+        except CheckError:
+            pass

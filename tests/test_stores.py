@@ -186,6 +186,13 @@ class SwitchTest(StoreCase):
         self.assertEqual(list(it.modes()), ["code", "some", "whole"])
         self.assertEqual(it.log(), [("switch", ["some", "whole"], "late"), ("switch", ["some"], "each")])
 
+    def test_rules_with_the_names_of_tables_and_handles(self):
+        rules = [("task", "some", "task", []), ("n", "unique", "task", "code")]
+        it = store({"task": "late"}, ROWS, rules)
+        it.do(("put", "n", "task", {"state": "open", "boss": None, "code": None}))
+        it.do(("take", "task", [("row", "n")]))
+        self.assertEqual(it.modes(), {"n": "now", "task": "late"})
+
     def test_rules_are_checked_whatever_their_modes_were(self):
         for mode in ["now", "each"]:
             it = store({"whole": "late"})
@@ -476,7 +483,7 @@ class CopyTest(StoreCase):
         it.checks(TAKE).append("x")
         it.end_checks().append("x")
         it.do(("take", "task", [("row", "none")])).append("x")
-        self.assertEqual(told(it)[3:5], [before[2], before[3]])
+        self.assertEqual([told(it)[1], told(it)[3], told(it)[4]], [before[0], before[2], before[3]])
         self.assertEqual(it.log()[:2], before[1])
         self.assertEqual(("task", "a") in it.tables(), True)
 

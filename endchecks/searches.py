@@ -1,0 +1,64 @@
+"""Searches: all paths that runs of a script go from legal starting tables."""
+
+from endchecks.errors import TooMany
+from endchecks.grounds import ground_of
+from endchecks.judges import Judge
+from endchecks.ways import CourseWalk
+
+
+class Search:
+    """A search for paths, check by check: each one passes or not, as far as there are tables for it."""
+
+    def __init__(self, script, modes, kinds, most):
+        self._script = script
+        self._modes = modes
+        self._kinds = kinds
+        self._most = most
+        self._found = []
+
+    def all_paths(self):
+        """The list of all paths: of two the one comes first that passes the first check at which they part."""
+        # So far there is only the check that the start is legal.
+        ground = ground_of([(self._script, ([], []))], self._kinds)
+        if ground.barred() is None:
+            self._go_on([], ground, 0)
+        return list(self._found)
+
+    def _go_on(self, failing, ground, many):
+        """Finds all paths that begin with so many checks, laid upon a ground, and on which some failures came."""
+        walk = CourseWalk(self._script, self._modes, failing)
+        events = walk.course_gone()[1]
+        judge = Judge(self._script, walk.course_gone())
+        later = []
+        can_end = True
+        for at in range(many, len(events)):
+            check = events[at]
+            finding = ground.finding(judge, check)
+            broken = _with_failure(ground, check, finding)
+            if broken is not None:
+                later.append(([*failing, check[1:3]], broken, at + 1))
+            ground.lay(0, check, finding)
+            if ground.barred() is not None:
+                can_end = False
+                break
+        if can_end:
+            self._add(walk.path_gone())
+        for failures, broken, checks in reversed(later):
+            self._go_on(failures, broken, checks)
+
+    def _add(self, path):
+        if len(self._found) >= self._most:
+            raise TooMany(self._most)
+        self._found.append(path)
+
+
+def _with_failure(ground, check, finding):
+    """The Ground on which a check breaks, or None if it cannot."""
+    # Most checks have no spot: they need no Ground of their own.
+    if finding.rule_sort != "some" and ground.spot(finding) is None:
+        return None
+    broken = ground.copied()
+    broken.lay(0, (*check[:4], False), finding)
+    if broken.barred() is not None:
+        return None
+    return broken
