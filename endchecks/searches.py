@@ -43,7 +43,7 @@ class Search:
                 break
         if can_end:
             self._add(walk.path_gone())
-        for failures, broken, checks in reversed(later):
+        for failures, broken, checks in reversed(list(later)):
             self._go_on(failures, broken, checks)
 
     def _add(self, path):

@@ -184,6 +184,14 @@ class StatementsTest(unittest.TestCase):
                 if is_view or is_call_of(node, "zip", "enumerate", "range", "reversed", "map"):
                     self.assertIn(node, heads, (path.name, node.lineno))
 
+    def test_what_reversed_takes(self):
+        """Where a class has [ ], it stands over calls that are plainly lists, or over literals."""
+        for path, node in nodes(ast.Call):
+            if is_call_of(node, "reversed"):
+                over, = node.args
+                is_literal = isinstance(over, (ast.List, ast.Tuple, ast.Constant))
+                self.assertTrue(is_literal or is_call_of(over, "list", "tuple", "sorted", "range"), (path.name, node.lineno))
+
     def test_errors_are_raised_on_the_spot(self):
         for path, node in nodes(ast.Raise):
             self.assertTrue(isinstance(node.exc, ast.Call) and isinstance(node.exc.func, ast.Name), path.name)
