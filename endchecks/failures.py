@@ -1,5 +1,6 @@
 """Failures: which ones runs of a script have, caught or not."""
 
+from endchecks.modes import in_order
 from endchecks.paths import paths, tables_on
 
 
@@ -8,9 +9,7 @@ def failures(script, modes, *, most=200):
     every = paths(script, modes, most=most)
     caught = [(*failure, True) for path in every for failure in path[0]]
     ending = [(*path[1], False) for path in every if path[1] is not None]
-    names = script.schema.names()
-    places = sorted({(address, names.index(name), is_caught) for address, name, is_caught in caught + ending})
-    return [(address, names[rank], is_caught) for address, rank, is_caught in places]
+    return in_order(script.schema, sorted(set(caught + ending)))
 
 
 def never_fails(script, modes, *, most=200):

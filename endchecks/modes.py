@@ -41,3 +41,10 @@ def _way(mode):
 def checks_at_end(schema, modes):
     """The list of the checks (name, way) behind the last statement, by the modes of all rules."""
     return [(name, "behind") for name in schema.names() if modes[name] == "late"]
+
+
+def in_order(schema, told):
+    """The ascending list of tuples (address, rule ..); for one address the rules are in the order of the schema."""
+    names = schema.names()
+    places = sorted([(item[0], names.index(item[1]), *item[2:]) for item in told])
+    return [(place[0], names[place[1]], *place[2:]) for place in places]

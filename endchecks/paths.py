@@ -7,7 +7,7 @@ from endchecks.grounds import ground_of, looks_of
 from endchecks.hubs import needed_on
 from endchecks.names import is_name
 from endchecks.rowkinds import row_kinds
-from endchecks.searches import Search
+from endchecks.searches import Search, start_ground
 from endchecks.spots import holds, is_legal
 from endchecks.supports import Reasons, all_kinds, are_falls
 from endchecks.ways import course, is_path
@@ -70,10 +70,10 @@ def _whole_ground(several, most):
 
 def tables_for(several, kinds=(), *, most=200):
     """Tables that fit and have three rows or more of each of some kinds, or None if there are none that fit."""
-    return _built(several, _whole_ground(several, most), kinds)
+    return built_on(several, _whole_ground(several, most), kinds)
 
 
-def _built(several, ground, kinds):
+def built_on(several, ground, kinds):
     """Tables that fit, as tables_for has it, by the Ground of all kinds."""
     if ground.barred() is not None:
         return None
@@ -149,7 +149,8 @@ def _left(several, falls):
 def paths(script, modes, *, most=200):
     """The list of all paths that runs go from some legal starting tables."""
     kinds = row_kinds(script.schema, script.looks(), most=most)
-    return Search(script, modes, kinds, most).all_paths()
+    ends = Search(script, modes, 0).ends(start_ground(script, kinds), most)
+    return [path for path, ground in ends]
 
 
 def can_go(script, modes, path, *, most=200):
@@ -166,4 +167,4 @@ def tables_on(script, modes, path, *, most=200):
     if not is_path(script, modes, path):
         return None
     several = [(script, course(script, modes, path))]
-    return _built(several, ground_of(several, kinds), [])
+    return built_on(several, ground_of(several, kinds), [])

@@ -9,14 +9,16 @@ class Walk:
 
     def __init__(self, script):
         self._script = script
-        self._caught = []
+        # The addresses of all statements that were come to, and tuples (address of a try, failure that it caught).
+        self._met = []
+        self._catches = []
 
     def walked(self):
         """Goes the way; returns its path."""
         failure = self._through(self._script.body(), ())
         if failure is None:
             failure = self._end()
-        return (tuple(self._caught), failure)
+        return (tuple([caught for _, caught in self._catches]), failure)
 
     def _through(self, body, ahead):
         """Does the statements of a body, one after another; returns the failure that goes out of it, or None."""
@@ -27,6 +29,7 @@ class Walk:
         return None
 
     def _come_to(self, address, statement):
+        self._met.append(address)
         if statement[0] not in ("trial", "try"):
             return self._step(address, statement)
         kept = self._keep(address)
@@ -37,9 +40,17 @@ class Walk:
             return failure
         if failure is None or failure[1] not in statement[2]:
             return failure
-        self._caught.append(failure)
+        self._catches.append((address, failure))
         self._undo(address, kept)
         return self._through(statement[3], (*address, 1))
+
+    def addresses_met(self):
+        """The list of the addresses of the statements that were come to."""
+        return list(self._met)
+
+    def catches(self):
+        """The list of the tuples (address of a try, failure) of the failures that were caught, in order."""
+        return list(self._catches)
 
     def _keep(self, address):
         """What is needed to lead back to what is ahead of a block."""

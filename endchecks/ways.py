@@ -78,9 +78,14 @@ def _is_failure(script, thing):
     return all([is_integer(number) for number in thing[0]]) and thing[1] in script.schema.names()
 
 
+def walk_along(script, modes, path):
+    """The walk on which a path is gone."""
+    return CourseWalk(script, modes, _failures_of(path))
+
+
 def course(script, modes, path):
     """The course of a path."""
-    return CourseWalk(script, modes, _failures_of(path)).course_gone()
+    return walk_along(script, modes, path).course_gone()
 
 
 def open_course(script, events):

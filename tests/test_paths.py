@@ -408,6 +408,34 @@ class TablesForTest(PathsCase):
         self.assertEqual([run(one, tables_for(several), late)[0][1], run(three, tables_for(several), late)[0][1]], [None, ((), "s")])
 
 
+    def test_puts_in_another_order(self):
+        """Two scripts put the same new rows, with words that are alike, and link to them: while they are there or not."""
+        schema = Schema({"t": {"m": ("mark", ["u", "v"]), "x": ("link", "t"), "a": ("tag",)}}, [
+            ("k", "link", "t", "x", [], []), ("l", "unique", "t", "a")])
+        h, i = [("put", handle, "t", {"m": "u", "x": None, "a": ("word", "w")}) for handle in "hi"]
+        link, free = ("change", "t", V, {"x": ("new", "h")}), ("change", "t", [("row", "h")], {"a": None})
+        gone = ("take", "t", [("row", "h")])
+        bodies = [[h, free, link, i], [i, free, h, link], [h, link, gone, i], [h, gone, i, link]]
+        wanted = {(0, 0): ((0,), "l"), (0, 1): None, (1, 0): ((0,), "l"), (1, 1): ((2,), "l"), (2, 0): ((0,), "l"), (2, 1): None,
+                  (2, 2): ((2,), "k"), (3, 0): ((0,), "l"), (3, 1): None, (3, 2): ((3,), "k")}
+        scripts = [Script(schema, body) for body in bodies]
+        for at, script in enumerate(scripts):
+            ends = [end for (number, _), end in wanted.items() if number == at]
+            self.assertEqual({path[1] for path in paths(script, {})}, {*ends})
+            for end in ends:
+                self.gone(script, {}, ((), end))
+        for (one, _), end in wanted.items():
+            for (other, _), its_end in wanted.items():
+                if end is None or its_end is None or (end[1], its_end[1]) != ("l", "l"):
+                    several = [(scripts[one], course(scripts[one], {}, ((), end))), (scripts[other], course(scripts[other], {}, ((), its_end)))]
+                    tables = tables_for(several)
+                    if tables is None:
+                        self.is_barred(several)
+                    else:
+                        self.assertEqual([run(scripts[at], tables, {})[0][1] for at in [one, other]], [end, its_end])
+                        self.look_at(several, [], tables)
+
+
 class FitsTest(PathsCase):
     def setUp(self):
         self.script = Script(tree(), [END, CUT])
