@@ -180,7 +180,7 @@ class Ground:
             if others:
                 other, its_field = self._roster.tag_at(least(others))
                 return ("shared", self._roster.kind_at(at), field, self._roster.kind_at(other), its_field)
-            words = [word for word in finding.spoken if not any([word in told.spoken for told in beside])]
+            words = [word for word in finding.spoken if not any([word in other_one.spoken for other_one in beside])]
             if len(words) > 0:
                 return ("worded", self._roster.kind_at(at), field, words[0])
         return None

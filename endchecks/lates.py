@@ -41,4 +41,4 @@ def _choices(names):
     lists = [[]]
     for name in sorted(names):
         lists = lists + [[*some, name] for some in lists]
-    return [some for _, some in sorted([(len(some), some) for some in lists])]
+    return [chosen for _, chosen in sorted([(len(some), some) for some in lists])]

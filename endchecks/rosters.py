@@ -17,7 +17,7 @@ class Roster:
         self._needs = []
         for at, kind in enumerate(kinds):
             self._enter(schema, at, kind)
-        self._homes = {table: mask_of([at for at, kind in enumerate(kinds) if kind[0] == table])
+        self._homes = {table: mask_of([place for place, here in enumerate(kinds) if here[0] == table])
                        for table in schema.tables()}
         self._leads = [schema.leads_to(kinds[at][0], field) for at, field in self._ends]
 
